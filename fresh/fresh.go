@@ -1,0 +1,26 @@
+// Package fresh has copies of values that share no list with what they were made of,
+// as whatever is handed in, and answered, is a value of its own.
+package fresh
+
+import (
+	"slices"
+
+	"hibernacle/api"
+)
+
+// Drive is a drive with lists of its own.
+func Drive(d api.Drive) api.Drive {
+	d.Blocks = slices.Clone(d.Blocks)
+	d.Pending = slices.Clone(d.Pending)
+	return d
+}
+
+// Machine is a machine with lists of its own.
+func Machine(m api.Machine) api.Machine {
+	m.Frames = slices.Clone(m.Frames)
+	m.Procs = slices.Clone(m.Procs)
+	m.Pipes = slices.Clone(m.Pipes)
+	m.Drive = Drive(m.Drive)
+	m.Dirty = slices.Clone(m.Dirty)
+	return m
+}
