@@ -24,3 +24,16 @@ func Machine(m api.Machine) api.Machine {
 	m.Dirty = slices.Clone(m.Dirty)
 	return m
 }
+
+// Shelf is a shelf with lists of its own.
+func Shelf(s api.Shelf) api.Shelf {
+	return api.Shelf{Objs: slices.Clone(s.Objs), Fates: slices.Clone(s.Fates)}
+}
+
+// Store is a store with lists of its own.
+func Store(st api.Store) api.Store {
+	for i, s := range st.Shelves {
+		st.Shelves[i] = Shelf(s)
+	}
+	return st
+}

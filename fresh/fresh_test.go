@@ -22,3 +22,14 @@ func TestMachine(t *testing.T) {
 		t.Error("another one")
 	}
 }
+
+// R3
+func TestStore(t *testing.T) {
+	st := api.Store{Left: 4}
+	st.Shelves[2] = api.Shelf{Objs: []api.Obj{{Name: "a"}}, Fates: []int{1}}
+	c := Store(st)
+	c.Shelves[2].Objs[0].Name, c.Shelves[2].Fates[0] = "x", 9
+	if st.Shelves[2].Objs[0].Name != "a" || st.Shelves[2].Fates[0] != 1 || c.Left != 4 {
+		t.Error("shared")
+	}
+}
