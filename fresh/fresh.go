@@ -37,3 +37,22 @@ func Store(st api.Store) api.Store {
 	}
 	return st
 }
+
+// Root is a root with lists of its own.
+func Root(r api.Root) api.Root {
+	r.Refs = slices.Clone(r.Refs)
+	r.Packs = slices.Clone(r.Packs)
+	for i, p := range r.Packs {
+		r.Packs[i].Places = slices.Clone(p.Places)
+	}
+	r.Chans = slices.Clone(r.Chans)
+	return r
+}
+
+// Vault is a vault with lists of its own.
+func Vault(v api.Vault) api.Vault {
+	return api.Vault{
+		Store: Store(v.Store), Ring: api.Ring{Epochs: slices.Clone(v.Ring.Epochs)}, Keys: api.Keys{All: slices.Clone(v.Keys.All)},
+		Root: Root(v.Root), Pending: slices.Clone(v.Pending), Pins: slices.Clone(v.Pins),
+	}
+}

@@ -33,3 +33,20 @@ func TestStore(t *testing.T) {
 		t.Error("shared")
 	}
 }
+
+// R3
+func TestVault(t *testing.T) {
+	v := api.Vault{
+		Ring: api.Ring{Epochs: []api.Epoch{{Wrap: "w"}}}, Keys: api.Keys{All: []api.Key{{1}}}, Pending: []api.Box{{Name: "b"}}, Pins: []string{"p"},
+		Root: api.Root{N: 3, Refs: []api.Ref{{N: 1}}, Packs: []api.Packed{{Name: "p", Places: []api.Place{{Name: "q"}}}}, Chans: []api.Chan{{N: 4}}},
+	}
+	c := Vault(v)
+	c.Ring.Epochs[0].Wrap, c.Keys.All[0], c.Pending[0].Name, c.Pins[0] = "x", api.Key{}, "x", "x"
+	c.Root.Refs[0].N, c.Root.Packs[0].Name, c.Root.Packs[0].Places[0].Name, c.Root.Chans[0].N = 9, "x", "x", 9
+	if v.Ring.Epochs[0].Wrap != "w" || v.Keys.All[0] != (api.Key{1}) || v.Pending[0].Name != "b" || v.Pins[0] != "p" {
+		t.Error("shared")
+	}
+	if v.Root.Refs[0].N != 1 || v.Root.Packs[0].Name != "p" || v.Root.Packs[0].Places[0].Name != "q" || v.Root.Chans[0].N != 4 || c.Root.N != 3 {
+		t.Error("shared")
+	}
+}

@@ -3,11 +3,11 @@ package root
 import (
 	"iter"
 	"slices"
-	"strings"
 
 	"hibernacle/api"
 	"hibernacle/fresh"
 	"hibernacle/keys"
+	"hibernacle/names"
 	"hibernacle/num"
 	"hibernacle/seal"
 	"hibernacle/share"
@@ -26,12 +26,12 @@ func Load(st api.Store, l []api.Share) (api.Store, api.Ring, api.Keys, api.Root,
 	if _, e := share.Join(l); e != api.OK {
 		return fresh.Store(st), api.Ring{}, api.Keys{}, api.Root{}, e
 	}
-	st, names, e := spread.Names(st, rootFront)
+	st, all, e := spread.Names(st, names.RootFront)
 	if e != api.OK {
 		return st, api.Ring{}, api.Keys{}, api.Root{}, e
 	}
 	isGone, isClosed := false, false
-	for name := range falling(names) {
+	for name := range falling(all) {
 		var data string
 		st, data, e = spread.Vote(st, name)
 		isGone = isGone || e == api.ErrGone
@@ -58,20 +58,14 @@ func Load(st api.Store, l []api.Share) (api.Store, api.Ring, api.Keys, api.Root,
 }
 
 // falling hands on the names of roots' objects, the last one first.
-func falling(names []string) iter.Seq[string] {
+func falling(l []string) iter.Seq[string] {
 	return func(yield func(string) bool) {
-		for _, name := range slices.Backward(names) {
-			if isObjectName(name) && !yield(name) {
+		for _, name := range slices.Backward(l) {
+			if names.IsRoot(name) && !yield(name) {
 				return
 			}
 		}
 	}
-}
-
-func isObjectName(name string) bool {
-	digits, ok := strings.CutPrefix(name, rootFront)
-	other := func(c rune) bool { return c < '0' || c > '9' }
-	return ok && len(digits) == digitCount && strings.IndexFunc(digits, other) < 0
 }
 
 // open is what an object tells; ErrKey, if the shares don't open its ring.
@@ -97,7 +91,7 @@ func open(name, data string, l []api.Share) (opened, api.Errno) {
 		return opened{}, api.ErrForm
 	}
 	r, e := Of(b)
-	if e != api.OK || objectName(r.N) != name {
+	if e != api.OK || names.Root(r.N) != name {
 		return opened{}, api.ErrForm
 	}
 	return opened{ring: ring, keys: k, root: r}, api.OK

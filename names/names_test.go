@@ -1,0 +1,27 @@
+package names
+
+import (
+	"strings"
+	"testing"
+)
+
+func TestIsMachine(t *testing.T) {
+	for name, want := range map[string]bool{"a": true, "m-1.z": true, strings.Repeat("9", 24): true, strings.Repeat("9", 25): false, "": false, "A": false, "a_b": false, "a/b": false, "\xff": false} {
+		if IsMachine(name) != want {
+			t.Error(name)
+		}
+	}
+}
+
+func TestRoot(t *testing.T) {
+	for n, want := range map[int]string{1: "root/00000001", 99999999: "root/99999999", 123456789: "root/123456789"} {
+		if got := Root(n); got != want || IsRoot(got) != (n < 100000000) {
+			t.Error(got)
+		}
+	}
+	for _, name := range []string{"", "root/", "root/1234567", "root/1234567a", "pack/00000001", "00000001", "root/0000000\xff"} {
+		if IsRoot(name) {
+			t.Error(name)
+		}
+	}
+}
