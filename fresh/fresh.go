@@ -56,3 +56,21 @@ func Vault(v api.Vault) api.Vault {
 		Root: Root(v.Root), Pending: slices.Clone(v.Pending), Pins: slices.Clone(v.Pins),
 	}
 }
+
+// Shot is a shot with lists of its own.
+func Shot(s api.Shot) api.Shot {
+	s.Frames = slices.Clone(s.Frames)
+	s.Blocks = slices.Clone(s.Blocks)
+	return s
+}
+
+// Agent is an agent with lists of its own.
+func Agent(a api.Agent) api.Agent {
+	a.Shot = Shot(a.Shot)
+	for i := range a.Todo {
+		a.Todo[i] = slices.Clone(a.Todo[i])
+		a.Snap.Chunks[i] = slices.Clone(a.Snap.Chunks[i])
+	}
+	a.Known = slices.Clone(a.Known)
+	return a
+}

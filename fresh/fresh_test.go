@@ -50,3 +50,14 @@ func TestVault(t *testing.T) {
 		t.Error("shared")
 	}
 }
+
+// R3
+func TestAgent(t *testing.T) {
+	a := api.Agent{Acked: 5, Known: []api.Named{{Name: "k"}}, Shot: api.Shot{Frames: []api.Kept{{Data: "f"}}, Blocks: []api.Kept{{Data: "b"}}}}
+	a.Todo[1], a.Snap.Chunks[2] = []string{"t"}, []string{"c"}
+	c := Agent(a)
+	c.Known[0].Name, c.Shot.Frames[0].Data, c.Shot.Blocks[0].Data, c.Todo[1][0], c.Snap.Chunks[2][0] = "x", "x", "x", "x", "x"
+	if a.Known[0].Name != "k" || a.Shot.Frames[0].Data != "f" || a.Shot.Blocks[0].Data != "b" || a.Todo[1][0] != "t" || a.Snap.Chunks[2][0] != "c" || c.Acked != 5 {
+		t.Error("shared")
+	}
+}
