@@ -44,7 +44,7 @@ func (c *call) read() {
 	case api.FdFile:
 		var e api.Errno
 		data, e = fs.Read(cache.View(c.m), f.N, f.Pos, n)
-		c.none(e)
+		c.must(e)
 		c.caller().Fds[fd].Pos += len(data)
 	case api.FdFrom:
 		pipe, _ := state.Pipe(c.m, f.N)
@@ -81,7 +81,7 @@ func (c *call) write() {
 		c.m.Told += uint64(n)
 	case api.FdFile:
 		v, e := fs.Write(cache.View(c.m), f.N, f.Pos, data)
-		c.none(e)
+		c.must(e)
 		c.keep(v)
 		c.caller().Fds[fd].Pos += n
 	case api.FdTo:
@@ -106,14 +106,14 @@ func (c *call) open() {
 	n, e := fs.Find(v, path)
 	if e == api.ErrNone && flags&makes != 0 {
 		v, n, e = fs.Create(v, path, 0)
-		c.none(e)
+		c.must(e)
 	} else {
-		c.none(e)
+		c.must(e)
 		x, e := inode.Get(v, n)
 		c.need(e == api.OK && x.Kind == api.IsFile, api.ErrKind)
 		if flags&empties != 0 {
 			v, e = fs.Cut(v, n, 0)
-			c.none(e)
+			c.must(e)
 		}
 	}
 	if !slices.Equal(v, was) {
@@ -153,10 +153,10 @@ func (c *call) remove() {
 	path := c.text(true)
 	v := cache.View(c.m)
 	n, e := fs.Find(v, path)
-	c.none(e)
+	c.must(e)
 	c.need(!proc.Opened(c.m, n), api.ErrBusy)
 	v, e = fs.Remove(v, path)
-	c.none(e)
+	c.must(e)
 	c.keep(v)
 	c.answer(0)
 }
@@ -165,7 +165,7 @@ func (c *call) size() {
 	f, _ := c.opened(c.a[0])
 	c.need(f.Kind == api.FdFile, api.ErrKind)
 	x, e := inode.Get(cache.View(c.m), f.N)
-	c.none(e)
+	c.must(e)
 	c.answer(uint32(x.Size))
 }
 
@@ -173,7 +173,7 @@ func (c *call) link() {
 	names := strings.Split(c.text(true), separator)
 	c.need(len(names) == 2, api.ErrForm)
 	v, e := fs.Link(cache.View(c.m), names[0], names[1])
-	c.none(e)
+	c.must(e)
 	c.keep(v)
 	c.answer(0)
 }

@@ -24,13 +24,13 @@ func (c *call) spawn() {
 	in, out := c.passed(io%256), c.passed(io/256)
 	v := cache.View(c.m)
 	n, e := fs.Find(v, path)
-	c.none(e)
+	c.must(e)
 	b, e := fs.Read(v, n, 0, api.MaxFile)
-	c.none(e)
+	c.must(e)
 	x, e := exe.Of(b)
-	c.none(e)
+	c.must(e)
 	next, pid, e := proc.Spawn(c.m, x, c.m.Cur, in, out)
-	c.none(e)
+	c.must(e)
 	c.m = next
 	c.answer(uint32(pid))
 }
@@ -51,7 +51,7 @@ func (c *call) wait() {
 		c.waitFor(api.ForChild, uint64(c.a[0]))
 		return
 	}
-	c.none(e)
+	c.must(e)
 	c.m = next
 	c.answerTwo(uint32(pid), code)
 }
@@ -81,7 +81,7 @@ func (c *call) sleep() {
 func (c *call) grow() {
 	c.need(c.a[0] < beyond, api.ErrLimit)
 	next, at, e := proc.Grow(c.m, c.m.Cur, int(c.a[0]))
-	c.none(e)
+	c.must(e)
 	c.m = next
 	c.answer(uint32(at))
 }
