@@ -177,3 +177,35 @@ func TestNamesOrNumbers(t *testing.T) {
 		t.Error(e, f)
 	}
 }
+
+// P11.1: the edges of tokens, numbers and sizes.
+func TestEdges(t *testing.T) {
+	for _, text := range []string{
+		"li r0, -2147483648", "li r15, 4294967295", "word w -2147483648", "word w 4294967295", "raw 4294967295", "room r 65536", "aA0zZ9_:\n_:\nA:\nz:\nZ:", "text t \" ~!\"",
+		strings.Repeat("\n", 399) + "sys 1\n", "#" + strings.Repeat("x", 65535),
+	} {
+		if _, e, line := Make(text); e != api.OK {
+			t.Errorf("%.40q: %d %d", text, e, line)
+		}
+	}
+	for _, text := range []string{"text t \"\\", "text t \"\\x", "text t \"\\x1", "text t \"\\x1\"", "text t \"\\x1g\"", "text t \"\\xg1\"", "text t \"\\t\"", "text t \"\x7f\"", "text t \"\x1f\"", "@:", "[:", "`:", "{:", "sys", "add", "addi r1, r2,", "jal", "li", "word w"} {
+		if _, e, line := Make(text); e != api.ErrForm || line != 1 {
+			t.Errorf("%q: %d %d", text, e, line)
+		}
+	}
+	if x, _, _ := Make("text t \"\\x00\\xff\\x9a\""); x.Data != "\x00\xff\x9a" {
+		t.Errorf("%q", x.Data)
+	}
+	if got := List(api.Exe{Data: " ~\x1f\x7f"}); got != "text data \" ~\\x1f\\x7f\"\n" {
+		t.Errorf("%q", got)
+	}
+	// A name of data is no beginning; neither is a room's.
+	for _, text := range []string{"sys 1\nsys 2\ntext a \"12345678\"\nword start 7", "sys 1\nsys 2\nroom start 7"} {
+		if x, e, _ := Make(text); e != api.OK || x.Entry != 0 {
+			t.Error(x.Entry, e)
+		}
+	}
+	if x, _, _ := Make("li r3, 305419896"); !slices.Equal(x.Text, words(t, api.Ins{Op: 19, A: 3, Imm: 0x1234}, api.Ins{Op: 16, A: 3, B: 3, Imm: 0x5678})) {
+		t.Error(x.Text)
+	}
+}

@@ -182,3 +182,12 @@ func TestNames(t *testing.T) {
 		t.Error("empty")
 	}
 }
+
+// P20.1: the edges of a name's signs.
+func TestSigns(t *testing.T) {
+	for _, s := range []string{"a", "z", "A", "Z", "0", "9", "azAZ09-_."} {
+		if !May(s) {
+			t.Error(s)
+		}
+	}
+}

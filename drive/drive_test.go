@@ -144,3 +144,20 @@ func TestMayNotBe(t *testing.T) {
 	}
 	Flush(d)
 }
+
+// P15.1: as many blocks as may be.
+func TestMost(t *testing.T) {
+	d, e := New(256)
+	if e != api.OK || Check(d) != api.OK {
+		t.Error(e)
+	}
+	d.Left = 1
+	d, e = Put(d, 255, block("x"))
+	if e != api.OK || d.Left != 0 {
+		t.Error(e, d.Left)
+	}
+	d.Left = -7
+	if d, e = Flush(d); e != api.OK || d.Left != -7 {
+		t.Error(e, d.Left)
+	}
+}

@@ -221,3 +221,30 @@ func TestReadWhatWasWritten(t *testing.T) {
 		}
 	}
 }
+
+// P19.1: nothing read, and a size that stays.
+func TestEdges(t *testing.T) {
+	v := write(t, volume(t, 40), 1, 0, strings.Repeat("x", 1000))
+	for _, off := range []int{0, 5, 128, 999, 1000, 9000} {
+		if s, e := Read(v, 1, off, 0); e != api.OK || s != "" {
+			t.Error(off, e)
+		}
+	}
+	if s, e := Read(v, 1, 999, 5); e != api.OK || s != "x" {
+		t.Error(s, e)
+	}
+	// Blocks behind a size stay, unless it becomes less.
+	x, _ := inode.Get(v, 1)
+	x.Size = 200
+	v, _ = inode.Put(v, 1, x)
+	same, e := Cut(v, 1, 200)
+	if e != api.OK || !slices.Equal(same, v) || Count(v, 1) != 9 {
+		t.Error(e)
+	}
+	if less, e := Cut(v, 1, 199); e != api.OK || Count(less, 1) != 2 {
+		t.Error(e)
+	}
+	if w, e := Write(v, 1, 8959, "y"); e != api.OK || len(read(t, w, 1)) != 8960 {
+		t.Error(e)
+	}
+}

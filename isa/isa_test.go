@@ -105,3 +105,44 @@ func TestThereAndBack(t *testing.T) {
 		t.Error("no word was an instruction's")
 	}
 }
+
+// P10.1, P10.2, P10.4: each operation, at the edges of what it has.
+func TestEdges(t *testing.T) {
+	for op := uint8(1); op <= 31; op++ {
+		least, most := int32(-32768), int32(32767)
+		switch op {
+		case 15, 16, 17, 19, 31:
+			least, most = 0, 65535
+		}
+		if op <= 13 {
+			least, most = 0, 0
+		}
+		x := api.Ins{Op: op, A: 15, B: 15, C: 15}
+		if op > 13 {
+			x.C = 0
+		}
+		if op == 19 || op == 29 || op == 31 {
+			x.B = 0
+		}
+		if op == 31 {
+			x.A = 0
+		}
+		for _, imm := range []int32{least, most, 0} {
+			x.Imm = imm
+			w, e := Enc(x)
+			if back, ok := Dec(w); e != api.OK || !ok || back != x || uint8(w>>26) != op {
+				t.Error(x, e, back)
+			}
+		}
+		want := api.ErrRange
+		if op <= 13 {
+			want = api.ErrArg
+		}
+		for _, imm := range []int32{least - 1, most + 1} {
+			x.Imm = imm
+			if _, e := Enc(x); e != want {
+				t.Error(x, e)
+			}
+		}
+	}
+}

@@ -137,3 +137,32 @@ func TestThereAndBack(t *testing.T) {
 		}
 	}
 }
+
+// P13.2: the first frame that isn't.
+func TestNoFrame(t *testing.T) {
+	l, s := memory()
+	s[2].Frame = len(l)
+	if v, ok := Load(l, s, 256, 1); ok || v != 0 {
+		t.Error(v)
+	}
+	if out, ok := Store(l, s, 256, 4, 1); ok || out != nil {
+		t.Error("stored")
+	}
+	if b, ok := Copy(l, s, 256, 1); ok || b != "" {
+		t.Error(b)
+	}
+	// All of the memory, just as it is.
+	for at := range s {
+		s[at] = api.Pte{Is: true, Write: true, Frame: at % 3}
+	}
+	all, ok := Copy(l, s, 0, 2048)
+	if !ok || len(all) != 2048 {
+		t.Error(len(all))
+	}
+	if _, ok := Copy(l, s, 1, 2048); ok {
+		t.Error("beyond")
+	}
+	if out, ok := Lay(l, s, 2047, "x"); !ok || out[0][127] != 'x' {
+		t.Error("the last byte")
+	}
+}

@@ -190,3 +190,41 @@ func TestPower(t *testing.T) {
 		}
 	}
 }
+
+// P16.1: as many writes as may be, and writes that aren't on the volume.
+func TestMost(t *testing.T) {
+	d := drv(t, 40)
+	var l []api.Write
+	for i := range 32 {
+		l = append(l, api.Write{Block: 39 - i, Data: block(string(rune('A' + i)))})
+	}
+	d.Left = 34
+	d, e := Commit(d, l)
+	if e != api.ErrGone || d.Left != 0 {
+		t.Fatal(e, d.Left)
+	}
+	d.Left = -1
+	d, e = Recover(d)
+	if e != api.OK || !slices.Equal(Home(d), changed(volume(40), l)) {
+		t.Error(e)
+	}
+	if _, e := Commit(d, append(l, api.Write{})); e != api.ErrLimit {
+		t.Error(e)
+	}
+	// A journal of a greater volume's block tells nothing here.
+	small := drv(t, 5)
+	copy(small.Blocks, d.Blocks[:33])
+	if got, e := Recover(small); e != api.OK || !slices.Equal(Home(got), volume(5)) {
+		t.Error(e)
+	}
+	last := drv(t, 5)
+	last, e = Commit(last, []api.Write{{Block: 4, Data: block("L")}})
+	if e != api.OK || Home(last)[4] != block("L") {
+		t.Error(e)
+	}
+	four := drv(t, 4)
+	copy(four.Blocks, last.Blocks[:33])
+	if got, e := Recover(four); e != api.OK || !same(got, four) {
+		t.Error(e)
+	}
+}

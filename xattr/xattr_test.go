@@ -174,3 +174,24 @@ func TestThereAndBack(t *testing.T) {
 		t.Error("not as it was")
 	}
 }
+
+// P21.1, P21.2: the edges of names, and a row as long as may be.
+func TestEdges(t *testing.T) {
+	v := set(t, volume(t), 1, "a", strings.Repeat("x", 123))
+	if v[7][:2] != "\x7e\x00" {
+		t.Errorf("%q", v[7][:2])
+	}
+	if s, e := Get(v, 1, "a"); e != api.OK || len(s) != 123 {
+		t.Error(e)
+	}
+	for _, name := range []string{"a", "z", "0", "9", "a0z9"} {
+		if _, e := Set(volume(t), 1, name, ""); e != api.OK {
+			t.Error(name, e)
+		}
+	}
+	for _, name := range []string{"`", "{", "/", ":"} {
+		if _, e := Set(volume(t), 1, name, ""); e != api.ErrName {
+			t.Error(name, e)
+		}
+	}
+}
