@@ -120,3 +120,23 @@ func TestOpenErrors(t *testing.T) {
 		t.Error(n)
 	}
 }
+
+// P39.1: chunks that are just as short, or as long, as may be.
+func TestEdges(t *testing.T) {
+	if l := Cut(strings.Repeat("\x00", 3000)); len(l[0]) != 1024 || len(l) != 3 {
+		t.Error(len(l[0]))
+	}
+	found := false
+	for i := range 4000 {
+		data := text(4100)[i : i+100]
+		if roll.Sum(data[48:64])&255 == 255 {
+			found = true
+			if l := Cut(data); len(l[0]) != 64 {
+				t.Error(i, len(l[0]))
+			}
+		}
+	}
+	if !found {
+		t.Error("no text is cut so early")
+	}
+}

@@ -201,3 +201,13 @@ func TestSound(t *testing.T) {
 		}
 	}
 }
+
+// P24.1: as many blocks as a limit lets it have.
+func TestLimit(t *testing.T) {
+	v := volume(t)
+	used := quota.Used(v, 2)
+	v, e := quota.Set(v, 2, used)
+	if e != api.OK || Look(v) != nil {
+		t.Error(e, Look(v))
+	}
+}

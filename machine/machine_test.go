@@ -310,3 +310,25 @@ func BenchmarkStep(b *testing.B) {
 		m, _ = Step(m)
 	}
 }
+
+// P30.1, P30.4: what may just be.
+func TestEdges(t *testing.T) {
+	v := volume(t, "/e", echo)
+	for _, c := range []api.Config{{Frames: 64, Quantum: 1, Init: "/e"}, {Frames: 4, Quantum: 1000, Init: "/e"}} {
+		if m, e := New(c, v); e != api.OK || len(m.Frames) != c.Frames || m.Quantum != c.Quantum {
+			t.Error(c, e)
+		}
+	}
+	if _, e := New(api.Config{Frames: 1, Quantum: 1, Init: "/e"}, v); e != api.ErrFull {
+		t.Error(e)
+	}
+	if _, e := New(api.Config{Frames: 8, Quantum: 1, Init: strings.Repeat("x", 128)}, v); e != api.ErrName {
+		t.Error(e)
+	}
+	if m, e := Feed(boots(t, echo), strings.Repeat("x", 4096), false); e != api.OK || len(m.In) != 4096 {
+		t.Error(e)
+	}
+	if _, e := Feed(boots(t, echo), strings.Repeat("x", 4097), false); e != api.ErrLimit {
+		t.Error(e)
+	}
+}

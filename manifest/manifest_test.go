@@ -94,3 +94,20 @@ func TestBytes(t *testing.T) {
 		t.Error("unlike ones have the same bytes")
 	}
 }
+
+// P41.1: as many names, and as small numbers, as may be.
+func TestEdges(t *testing.T) {
+	s := api.Snap{Machine: "m", N: 1, Pages: 1, Blocks: 1}
+	if e := Check(s); e != api.OK {
+		t.Error(e)
+	}
+	s.Chunks[0] = slices.Repeat([]string{name("x")}, 500)
+	s.Chunks[2] = slices.Repeat([]string{name("y")}, 500)
+	if e := Check(s); e != api.OK {
+		t.Error(e)
+	}
+	s.Chunks[1] = []string{name("z")}
+	if e := Check(s); e != api.ErrLimit {
+		t.Error(e)
+	}
+}

@@ -25,3 +25,16 @@ func TestRoot(t *testing.T) {
 		}
 	}
 }
+
+func TestEdges(t *testing.T) {
+	for name, want := range map[string]bool{"z": true, "0": true, "9": true, "`": false, "{": false, "/": false, ":": false} {
+		if IsMachine(name) != want {
+			t.Error(name)
+		}
+	}
+	for name, want := range map[string]bool{"root/09090909": true, "root/0000000/": false, "root/0000000:": false, "root/a0000000": false, "root/000000000": false} {
+		if IsRoot(name) != want {
+			t.Error(name)
+		}
+	}
+}

@@ -77,3 +77,11 @@ func TestUnlike(t *testing.T) {
 		t.Error(len(seen))
 	}
 }
+
+// P40.1: as many bytes as may be.
+func TestMost(t *testing.T) {
+	b, e := Make([]api.Box{{Name: "a", Data: strings.Repeat("x", 65526)}})
+	if l, f := Of(b); e != api.OK || f != api.OK || len(b) != 65536 || l[0].Len != 65526 {
+		t.Error(e, f, len(b))
+	}
+}

@@ -256,3 +256,26 @@ func TestMayBe(t *testing.T) {
 		}
 	}
 }
+
+// P26.3, P26.5: just as many frames as are free; a dead one that stands first.
+func TestEdges(t *testing.T) {
+	m, pid := spawn(t, machine(t, 5), 0)
+	if got, _, e := Grow(m, pid, 3); e != api.OK || len(state.Free(got)) != 0 {
+		t.Error(e)
+	}
+	m, parent := spawn(t, machine(t, 9), 0)
+	m.Procs[0].Pid, m.Next = 5, 6
+	m.Procs = append([]api.Proc{{Pid: 2, Parent: 5, State: api.Dead, Code: 4}, {Pid: 3, Parent: 5, State: api.Dead, Code: 6}}, m.Procs...)
+	if e := state.Check(m); e != api.OK {
+		t.Fatal(e, parent)
+	}
+	got, pid, code, e := Reap(m, 5, 0)
+	if e != api.OK || pid != 2 || code != 4 || len(got.Procs) != 2 {
+		t.Error(pid, code, e)
+	}
+	// A dead one without a parent that is there goes, too.
+	m.Procs[0].Parent = 77
+	if left := Die(m, 5, 0).Procs; len(left) != 0 {
+		t.Error(left)
+	}
+}

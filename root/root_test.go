@@ -222,3 +222,47 @@ func TestLoadErrors(t *testing.T) {
 	late.Left = 12
 	check(late, others[:3], api.ErrGone)
 }
+
+// P42.1: what may just be.
+func TestEdges(t *testing.T) {
+	r := full()
+	r.Refs = nil
+	for n := range 200 {
+		r.Refs = append(r.Refs, api.Ref{Machine: "m", N: 100000000 - n, At: 1000000000000, Name: name("a")})
+	}
+	r.Policy = api.Policy{Days: 1000, Weeks: 1000, Months: 1000, Years: 1000}
+	if e := Check(r); e != api.OK {
+		t.Error(e)
+	}
+}
+
+// P42.2: channels' rows.
+func TestChans(t *testing.T) {
+	b, _ := Bytes(full())
+	parts, _ := num.Texts(b)
+	for i, row := range []string{num.Row("m", "1234567", strings.Repeat("k", 32)), num.Row("m", "12345678", strings.Repeat("k", 31)), num.Row("m", "12345678"), num.Row("m", "12345678", strings.Repeat("k", 32), "")} {
+		parts[9] = num.Row(row)
+		if r, e := Of(num.Row(parts...)); e != api.ErrForm || !isZero(r) {
+			t.Error(i, e)
+		}
+	}
+	parts[9] = num.Row(num.Row("m", "12345678", strings.Repeat("k", 32)))
+	if _, e := Of(num.Row(parts...)); e != api.OK {
+		t.Error(e)
+	}
+}
+
+// P42.3: how many calls a save makes.
+func TestCalls(t *testing.T) {
+	rg, k, _ := ring(t)
+	for n, calls := range map[int]int{1: 5, 2: 5, 3: 10, 4: 10} {
+		r := full()
+		r.N = n
+		if st, e := Save(api.Store{Left: 20}, rg, k, r); e != api.OK || st.Left != 20-calls {
+			t.Error(n, st.Left, e)
+		}
+		if st, e := Save(api.Store{Left: 3}, rg, k, r); e != api.ErrGone || st.Left != 0 {
+			t.Error(n, e)
+		}
+	}
+}

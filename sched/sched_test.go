@@ -123,3 +123,20 @@ func TestNobodySleepsOn(t *testing.T) {
 		t.Error("woken once more")
 	}
 }
+
+// P27.1: a last step is left; whatever else, one reason is enough.
+func TestEdges(t *testing.T) {
+	m := machine(t, api.Proc{Pid: 1, State: api.Ready}, api.Proc{Pid: 2, State: api.Ready})
+	m.Cur, m.Left = 1, 1
+	if m = Pick(m); m.Cur != 1 || m.Left != 1 {
+		t.Error(m.Cur, m.Left)
+	}
+	both := api.Proc{Pid: 50, State: api.Ready, Fds: [8]api.Fd{{Kind: api.FdFrom, N: 2}, {Kind: api.FdTo, N: 2}, {Kind: api.FdFrom, N: 3}}}
+	if !Could(machine(t, waits(7, api.ForBytes, 2), both), 7) || Could(machine(t, waits(7, api.ForRoom, 3), both), 7) {
+		t.Error("pipes")
+	}
+	child := api.Proc{Pid: 51, Parent: 7, State: api.Ready}
+	if Could(machine(t, waits(7, api.ForChild, 0), child), 7) {
+		t.Error("a child that lives")
+	}
+}

@@ -190,3 +190,11 @@ func TestMayBe(t *testing.T) {
 		t.Error(got)
 	}
 }
+
+// P36.1: as many bytes as may be.
+func TestMost(t *testing.T) {
+	s, e := Put(api.Shelf{}, strings.Repeat("n", 100), strings.Repeat("x", 65536))
+	if e != api.OK || Check(s) != api.OK {
+		t.Error(e)
+	}
+}

@@ -161,3 +161,68 @@ func TestMayBe(t *testing.T) {
 		t.Error(e, len(got))
 	}
 }
+
+// P25.1: all numbers at their edges.
+func TestEdges(t *testing.T) {
+	zeros := strings.Repeat("\x00", 128)
+	for i, turn := range []func(m *api.Machine){
+		func(m *api.Machine) { m.Quantum, m.Left = 1, 1 }, func(m *api.Machine) { m.Quantum, m.Left = 1000, 1000 }, func(m *api.Machine) { m.Cur = 0 }, func(m *api.Machine) {
+			*m = api.Machine{Quantum: 1, Next: 1, NewPipe: 1, Frames: m.Frames[:1], Drive: m.Drive}
+		},
+		func(m *api.Machine) { m.Frames = slices.Repeat([]string{zeros}, 64) }, func(m *api.Machine) { m.Procs[1].Why = 1 }, func(m *api.Machine) { m.Procs[1].Why = 5 }, func(m *api.Machine) { m.Procs[0].Fds[2] = api.Fd{Kind: api.FdFile, N: 1} }, func(m *api.Machine) { m.Procs[0].Pid, m.Procs[0].Parent, m.Procs[2].Parent = 1, 1, 1 },
+		func(m *api.Machine) { m.Pipes[0].Data = strings.Repeat("x", 64) }, func(m *api.Machine) { m.Pipes = append([]api.Pipe{{Id: 1}}, m.Pipes...) },
+		func(m *api.Machine) {
+			for id := 5; len(m.Pipes) < 64; id++ {
+				m.Pipes = append(m.Pipes, api.Pipe{Id: id})
+			}
+			m.NewPipe = 100
+		},
+		func(m *api.Machine) {
+			m.Next = 20
+			for pid := 7; len(m.Procs) < 8; pid++ {
+				m.Procs = append(m.Procs, api.Proc{Pid: pid, State: api.Ready})
+			}
+		},
+		func(m *api.Machine) { m.Dirty[0].Block = 3 },
+		func(m *api.Machine) {
+			v, _ := geom.Format(60, 8)
+			m.Drive, _ = wal.Format(v)
+			m.Dirty = nil
+			for i := range 32 {
+				m.Dirty = append(m.Dirty, api.Write{Block: 20 + i, Data: zeros})
+			}
+		},
+	} {
+		m := machine(t)
+		turn(&m)
+		if e := Check(m); e != api.OK {
+			t.Error(i, e)
+		}
+	}
+	for i, turn := range []func(m *api.Machine){func(m *api.Machine) { m.Procs[0].Fds[2].Pos = -1 }, func(m *api.Machine) { m.Procs[1].Why = -1 }, func(m *api.Machine) { m.Pipes[0].Id = 0 }} {
+		m := machine(t)
+		turn(&m)
+		if e := Check(m); e != api.ErrForm {
+			t.Error(i, e)
+		}
+	}
+}
+
+// P25.3: the first pipe, and pipes with one end.
+func TestFirstPipe(t *testing.T) {
+	m := machine(t)
+	if p, ok := Pipe(m, 3); !ok || p.Data != "abc" {
+		t.Error(p)
+	}
+	if out, n := Put(m, 3, "d"); n != 1 || out.Pipes[0].Data != "abcd" {
+		t.Error(n)
+	}
+	m.Procs[0].Fds[1], m.Procs[1].Fds[4] = api.Fd{}, api.Fd{}
+	if from, to := Ends(m, 3); from != 1 || to != 0 || len(Sweep(m).Pipes) != 1 {
+		t.Error("a pipe that is read stays")
+	}
+	m.Procs[1].Fds[3] = api.Fd{Kind: api.FdTo, N: 3}
+	if from, to := Ends(m, 3); from != 0 || to != 1 || len(Sweep(m).Pipes) != 1 {
+		t.Error("a pipe that is written stays")
+	}
+}

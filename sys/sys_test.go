@@ -8,6 +8,7 @@ import (
 
 	"hibernacle/api"
 	"hibernacle/cache"
+	"hibernacle/dir"
 	"hibernacle/exe"
 	"hibernacle/fs"
 	"hibernacle/inode"
@@ -488,5 +489,79 @@ func TestOthers(t *testing.T) {
 		if out.Procs[0].State == api.Ready {
 			m = out
 		}
+	}
+}
+
+// P29.1: what may just be, and what just not.
+func TestEdges(t *testing.T) {
+	m := machine(t)
+	m.In = strings.Repeat("i", 200)
+	if out, _ := do(t, m, 1, "", 0, 128, 128); r1(out) != 128 || len(out.In) != 72 {
+		t.Error(int32(r1(out)))
+	}
+	if out, told := do(t, m, 2, "", 1, 128, 128); r1(out) != 128 || len(told) != 128 {
+		t.Error(int32(r1(out)))
+	}
+	fails(t, m, api.ErrName, 3, strings.Repeat("x", 128), 128, 128, 0)
+	fails(t, m, api.ErrName, 16, strings.Repeat("x", 128), 128, 128)
+	fails(t, m, api.ErrForm, 18, strings.Repeat("x", 128), 128, 128)
+	if out, _ := do(t, m, 6, "/prog", 128, 5, 0xffff); r1(out) != 3 {
+		t.Error(int32(r1(out)))
+	}
+	// The numbers from 2^31 on.
+	fails(t, m, api.ErrNone, 7, "", 1<<31)
+	fails(t, m, api.ErrNone, 7, "", 1<<31-1)
+	fails(t, m, api.ErrLimit, 15, "", 1<<31)
+	fails(t, m, api.ErrLimit, 15, "", 1<<31-1)
+	if out, _ := do(t, m, 15, "", 0); r1(out) != 256 {
+		t.Error(r1(out))
+	}
+	// One free number is enough for a file, and two for a pipe.
+	few := m
+	few.Procs = slices.Clone(m.Procs)
+	for i := 2; i < 6; i++ {
+		few.Procs[0].Fds[i] = api.Fd{Kind: api.FdIn}
+	}
+	if out, _ := do(t, few, 5, ""); out.Procs[0].Cpu.R[1] != 6 || out.Procs[0].Cpu.R[2] != 7 {
+		t.Error(out.Procs[0].Fds)
+	}
+	few.Procs[0].Fds[6] = api.Fd{Kind: api.FdIn}
+	fails(t, few, api.ErrLimit, 5, "")
+	if out, _ := do(t, few, 3, "/file", 128, 5, 0); r1(out) != 7 {
+		t.Error(int32(r1(out)))
+	}
+	// So many pipes, and numbers of pipes.
+	last := m
+	last.NewPipe = 999999999
+	if out, _ := do(t, last, 5, ""); out.NewPipe != 1000000000 {
+		t.Error(out.NewPipe)
+	}
+	many := m
+	many.NewPipe = 200
+	for id := 1; id <= 63; id++ {
+		many.Pipes = append(slices.Clone(many.Pipes), api.Pipe{Id: id})
+	}
+	if out, _ := do(t, many, 5, ""); r1(out) != 2 {
+		t.Error(int32(r1(out)))
+	}
+	many.Pipes = append(many.Pipes, api.Pipe{Id: 64})
+	fails(t, many, api.ErrLimit, 5, "")
+}
+
+// P29.1: an entry whose number is above the volume's inodes.
+func TestFarEntry(t *testing.T) {
+	m := machine(t)
+	v, e := dir.Add(cache.View(m), 1, "far", 60)
+	if e == api.OK {
+		m, e = cache.Keep(m, v)
+	}
+	if e != api.OK {
+		t.Fatal(e)
+	}
+	fails(t, m, api.ErrKind, 3, "/far", 128, 4, 3)
+	fails(t, m, api.ErrRange, 6, "/far", 128, 4, 0xffff)
+	fails(t, m, api.ErrRange, 18, "/far /x", 128, 7)
+	if out, _ := do(t, m, 16, "/far", 128, 4); r1(out) != 0 {
+		t.Error(int32(r1(out)))
 	}
 }

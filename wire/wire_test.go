@@ -100,3 +100,17 @@ func TestOthers(t *testing.T) {
 		}
 	}
 }
+
+// P44.1: chunks count, wherever they are.
+func TestChunks(t *testing.T) {
+	for i := range 3 {
+		for j := range 3 {
+			var s api.Snap
+			s.Chunks[i] = append(s.Chunks[i], "x")
+			s.Chunks[j] = append(s.Chunks[j], "y")
+			if e := Check(api.Msg{Kind: IsAsk, Snap: s}); e != api.ErrArg {
+				t.Error(i, j, e)
+			}
+		}
+	}
+}
