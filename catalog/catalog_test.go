@@ -11,6 +11,7 @@ import (
 	"hibernacle/fs"
 	"hibernacle/hash"
 	"hibernacle/image"
+	"hibernacle/inode"
 	"hibernacle/machine"
 	"hibernacle/num"
 	"hibernacle/progs"
@@ -159,5 +160,20 @@ func TestOn(t *testing.T) {
 		if got, ok := On(l, c.machine, c.minute); ok || got != (api.Ref{}) {
 			t.Error(c, got)
 		}
+	}
+}
+
+// P53.1: of a free inode nothing is told but its number.
+func TestFree(t *testing.T) {
+	m := boots(t)
+	v, e := inode.Put(cache.View(m), 12, api.Inode{Links: 3, Owner: 4, Size: 5})
+	if e == api.OK {
+		m, e = cache.Keep(m, v)
+	}
+	if f, ok := Find(of(t, m), "/free"); e != api.OK || !ok || f != (api.File{Path: "/free", Ino: 12}) {
+		t.Error(f, e)
+	}
+	if b, e := Bytes([]api.File{{Path: "a"}}); e != api.OK || b == "" {
+		t.Error(e)
 	}
 }

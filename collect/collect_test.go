@@ -287,3 +287,55 @@ func TestPower(t *testing.T) {
 		}
 	}
 }
+
+// P51.1: a pack just half of which is dead stays as it is; one of which more is dead, and that was bent, is told.
+func TestHalf(t *testing.T) {
+	v, l := begun(t)
+	v, a := put(t, v, data(1))
+	v, _ = put(t, v, data(2))
+	v, _ = vault.Flush(v)
+	half := reopened(t, commit(t, v, 1, a), l)
+	if p := half.Root.Packs[0].Places; len(p) != 2 || p[0].Len != p[1].Len {
+		t.Fatal(p)
+	}
+	step(t, half, false)
+	v, _ = begun(t)
+	v, a = put(t, v, data(1))
+	v, _ = put(t, v, data(2))
+	v, _ = put(t, v, data(3))
+	v, _ = vault.Flush(v)
+	more := reopened(t, commit(t, v, 1, a), l)
+	name := more.Root.Packs[0].Name
+	for left := range 60 {
+		x := more
+		x.Store.Left = left
+		x, did, e := Step(x)
+		if did == (e != api.OK) || e == api.OK && x.Root.Packs[0].Name == name || e != api.OK && (x.Root.Packs[0].Name != name || x.Root.N != more.Root.N) {
+			t.Error(left, did, e)
+		}
+	}
+	other, _ := pack.Make([]api.Box{{Name: "x"}})
+	more.Store, _ = spread.Write(more.Store, name, other)
+	if x, did, e := Step(more); did || e != api.ErrSum || x.Root.N != more.Root.N {
+		t.Error(did, e)
+	}
+}
+
+// P51.1: what a pack of which nothing is needed comes to, when its root can't be saved.
+func TestDropPower(t *testing.T) {
+	v, l := begun(t)
+	v, a := put(t, v, data(1))
+	v = commit(t, v, 1, a)
+	v, _ = put(t, v, data(2))
+	v, _ = vault.Flush(v)
+	v, _ = vault.Tick(v, 1)
+	o := reopened(t, v, l)
+	for left := range 40 {
+		x := o
+		x.Store.Left = left
+		x, did, e := Step(x)
+		if did != (e == api.OK) || did && len(x.Root.Packs) != 1 || !did && (len(x.Root.Packs) != 2 || x.Root.N != o.Root.N) {
+			t.Error(left, did, e)
+		}
+	}
+}

@@ -163,3 +163,8 @@ func TestBank(t *testing.T) {
 		t.Error("lines")
 	}
 }
+
+// P58.1: how much a step takes of a shot; as many steps as may be.
+func TestPumped(t *testing.T) {
+	plays(t, with(stored, "start 4", "go 16", "go 1", "tape 400", "run 400"), oks(7, "went 1 0 hi", "went 2 0 ", "taped 400", "told ")...)
+}

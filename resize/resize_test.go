@@ -244,3 +244,21 @@ func TestMachine(t *testing.T) {
 		t.Error(e)
 	}
 }
+
+// P55.3: directories and files at the edge of what has no block of numbers.
+func TestNumbers(t *testing.T) {
+	for n := 22; n <= 27; n++ {
+		v, _ := fs.Make(150, 40)
+		v, _, _ = fs.Mkdir(v, "/d", 0)
+		for i := range n {
+			v, _, _ = fs.Create(v, "/d/"+strconv.Itoa(i), 0)
+		}
+		v, f, _ := fs.Create(v, "/f", 0)
+		v, _ = fs.Write(v, f, 0, strings.Repeat("x", 128*(n-18)))
+		blocks, inodes := Needs(v)
+		g, _ := geom.Plan(150, inodes)
+		if Fits(v, g.Data+blocks, inodes) != api.OK || Fits(v, g.Data+blocks-1, inodes) != api.ErrFull || Fits(v, 200, inodes-1) != api.ErrFull {
+			t.Error(n, blocks, inodes)
+		}
+	}
+}

@@ -177,3 +177,17 @@ func TestFiles(t *testing.T) {
 		t.Error(m.Procs[1].Fds)
 	}
 }
+
+// P56.1: just as many frames as the process has pages.
+func TestJustFits(t *testing.T) {
+	from := boots(t, 16, "/kv", "kv")
+	need := pages(from.Procs[0].Space)
+	into := proc.Die(boots(t, need, "/kv", "kv"), 1, 0)
+	if m, pid, e := Proc(image.Of(from), 1, into); e != api.OK || pid != 2 || len(state.Free(m)) != 0 {
+		t.Error(e)
+	}
+	into.Frames = into.Frames[1:]
+	if _, _, e := Proc(image.Of(from), 1, into); e != api.ErrFull {
+		t.Error(e)
+	}
+}

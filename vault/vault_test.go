@@ -397,3 +397,10 @@ func TestLies(t *testing.T) {
 		}
 	}
 }
+
+// P45.1: the last minute that may be.
+func TestLastMinute(t *testing.T) {
+	if v, _, e := New(api.Store{Left: -1}, api.Key{1}, noise(1), 1000000000000, policy); e != api.OK || v.Root.Now != 1000000000000 {
+		t.Error(e)
+	}
+}
