@@ -181,6 +181,19 @@ func TestSleeps(t *testing.T) {
 	if m.Clock != 1<<40 {
 		t.Error(m.Clock)
 	}
+	// Whoever sleeps long is woken just then, however many steps there are.
+	m = boots(t, "li r1, 4000000000\nsys 9\nli r1, 1\naddi r2, r0, x\nli r3, 1\nsys 2\nsys 0\ntext x \"!\"")
+	before, s := Run(m, 4000000002)
+	if before.Procs[0].State != api.Waits || s != "" {
+		t.Error(before.Procs[0], s)
+	}
+	woken, _ := Run(before, 1)
+	if p := woken.Procs[0]; p.State != api.Ready || p.Cpu.PC == before.Procs[0].Cpu.PC {
+		t.Error(p)
+	}
+	if end, s := Run(m, 1<<40); s != "!" || len(end.Procs) != 0 || end.Clock != 1<<40 {
+		t.Error(s)
+	}
 }
 
 // P30.4
